@@ -11,7 +11,7 @@ const wordBits = 64
 
 // stack are the brackets that are open, the last one in the lowest bit.
 type stack struct {
-	below []uint64 // the words that last went on from, each of them full but the first one, which is empty
+	below []uint64 // what last was, each time that it had no more room (and the first time, when it was empty)
 	last  uint64
 	size  int
 	most  int // how many have been open at one time
